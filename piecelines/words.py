@@ -1,0 +1,26 @@
+"""Rows of bytes as texts of signs, and the numbers within them."""
+
+# Every sign that a word of the rules or of a checkpoint may hold.
+SIGNS = "0123456789ABCDEFGHIJKLMNOPQRSTUVWXYZ# \n"
+
+# It stands for all other bytes: no word that is asked for has it.
+STRANGE = "?"
+
+
+def is_bytes(row, most):
+    return len(row) <= most and all([0 <= number <= 255 for number in row])
+
+
+def spelled(row):
+    table = {}
+    for sign in SIGNS:
+        table[ord(sign)] = sign
+    return "".join([table.get(byte, STRANGE) for byte in row])
+
+
+# A number of at most five digits; -1 if the word is none, or lies outside.
+def number_within(word, least, most):
+    if not word.isdigit() or len(word) > 5:
+        return -1
+    number = int(word)
+    return number if least <= number <= most else -1
