@@ -3,6 +3,7 @@
 from piecelines.frames import held_numbers, held_of
 from piecelines.records import Record, body_numbers, body_of
 from piecelines.states import State
+from piecelines.words import told_line
 
 CHECK_MODULUS = 65521
 
@@ -18,10 +19,6 @@ class Checkpoint:
 
 def check_of(text):
     return sum([ord(sign) * at for at, sign in enumerate(text, start=1)]) % CHECK_MODULUS
-
-
-def told_line(word, numbers):
-    return " ".join([word] + [str(number) for number in numbers])
 
 
 def gathered_line(gathered):

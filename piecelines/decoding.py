@@ -1,4 +1,4 @@
-"""Bytes decoded to code points."""
+"""Bytes decoded to code points, and code points encoded."""
 
 REPLACEMENT = 65533
 
@@ -6,11 +6,16 @@ REPLACEMENT = 65533
 LEAST_BEHIND = {224: 160, 240: 144}
 GREATEST_BEHIND = {237: 159, 244: 143}
 
+# What the first byte holds beside bits of the code point, by how many bytes stand behind it.
+FIRST_BITS = (0, 192, 224, 240)
 
+
+# The place of the first wrong stretch tells something only if there are marks.
 class Decoded:
-    def __init__(self, points, marks):
+    def __init__(self, points):
         self.points = points
-        self.marks = marks
+        self.marks = 0
+        self.first_wrong = 0
 
 
 # How many bytes a code point has by its first one; 0 if none begins with it.
@@ -49,21 +54,56 @@ def put_together(row, at, size):
     return point
 
 
+def add_mark(decoded, at):
+    if decoded.marks == 0:
+        decoded.first_wrong = at
+    decoded.marks += 1
+    decoded.points.append(REPLACEMENT)
+
+
 def decoded_utf8(row):
-    points = []
-    marks = 0
+    decoded = Decoded([])
     at = 0
     while at < len(row):
         size = size_by_first(row[at])
         right = how_many_right(row, at, size)
         if right == size:
-            points.append(put_together(row, at, size))
+            decoded.points.append(put_together(row, at, size))
         else:
-            points.append(REPLACEMENT)
-            marks += 1
+            add_mark(decoded, at)
         at += right
-    return Decoded(points, marks)
+    return decoded
 
 
 def decoded_bytes(row):
-    return Decoded(list(row), 0)
+    return Decoded(list(row))
+
+
+def is_point(number):
+    return 0 <= number <= 1114111 and not 55296 <= number <= 57343
+
+
+# How many bytes stand behind the first one.
+def size_behind(point):
+    if point < 128:
+        return 0
+    if point < 2048:
+        return 1
+    if point < 65536:
+        return 2
+    return 3
+
+
+def encoded_point(point):
+    behind = size_behind(point)
+    row = [FIRST_BITS[behind] + (point >> (6 * behind))]
+    for at in range(behind):
+        row.append(128 + (point >> (6 * (behind - 1 - at))) % 64)
+    return row
+
+
+def encoded_utf8(points):
+    row = []
+    for point in points:
+        row.extend(encoded_point(point))
+    return row

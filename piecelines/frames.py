@@ -294,3 +294,13 @@ def end_held(rules, held, place, out):
         put_content(rules, held, place - 1, 13, out)
     if held.content > 0:
         end_frame(rules, held, place, BY_CLOSE, out)
+
+
+# The frames that these bytes are for a new sender that closes behind them.
+def whole_frames(rules, row):
+    held = Held(0)
+    out = []
+    for place, byte in enumerate(row):
+        take_byte(rules, held, place, byte, out)
+    end_held(rules, held, len(row), out)
+    return out

@@ -184,3 +184,8 @@ def read_rules(row):
         rules.fault = NO_FRAME
         rules.fault_line = len(lines) + 1
     return rules
+
+
+# What a call answers where rules are told that are wrong.
+def fault_answer(rules):
+    return [1, rules.fault, rules.fault_line]

@@ -1,6 +1,7 @@
 """The calls on up to sixteen senders, told and answered as one list of whole numbers."""
 
-from piecelines.calls import Desk, answer_call
+from piecelines.calls import answer_call
+from piecelines.desk import Desk
 
 # Of each call: how many whole numbers it has, then how many rows.
 SHAPES = {
@@ -15,6 +16,17 @@ SHAPES = {
     8: (0, 0),
     9: (2, 0),
     10: (1, 0),
+    11: (4, 0),
+    12: (1, 1),
+    13: (1, 0),
+    14: (1, 0),
+    15: (1, 0),
+    16: (0, 1),
+    17: (1, 1),
+    18: (0, 1),
+    19: (0, 2),
+    20: (0, 2),
+    21: (0, 0),
 }
 
 
@@ -31,7 +43,7 @@ def answers(calls):
             size = calls[behind]
             rows.append(calls[behind + 1:behind + 1 + size])
             behind += 1 + size
-        answer = answer_call(desk, calls[at], numbers, rows)
+        answer = answer_call(calls[at], desk, numbers, rows)
         given.append(len(answer))
         given.extend(answer)
         at = behind

@@ -88,3 +88,11 @@ def close_state(rules, state):
     finish(state)
     state.held = Held(state.place)
     state.is_open = 0
+
+
+# The records that these bytes are for a new sender that closes behind them.
+def whole_records(rules, row):
+    state = State(1)
+    take_bytes(rules, state, row)
+    close_state(rules, state)
+    return state.queue

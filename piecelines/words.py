@@ -1,4 +1,4 @@
-"""Rows of bytes as texts of signs, and the numbers within them."""
+"""Rows of bytes read as texts of signs, and texts and rows as they are told."""
 
 # Every sign that a word of the rules or of a checkpoint may hold.
 SIGNS = "0123456789ABCDEFGHIJKLMNOPQRSTUVWXYZ# \n"
@@ -24,3 +24,16 @@ def number_within(word, least, most):
         return -1
     number = int(word)
     return number if least <= number <= most else -1
+
+
+def told_line(word, told):
+    return " ".join([word] + [str(each) for each in told])
+
+
+def row_of_text(text):
+    return [ord(sign) for sign in text]
+
+
+# A row as it is answered: how many numbers it has stands ahead.
+def with_size(row):
+    return [len(row)] + row

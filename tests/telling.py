@@ -1,6 +1,6 @@
-"""Tells calls to the program and parts its answers; drives the modules for what no call shows."""
+"""Tells calls to the program and parts its answers."""
 
-from piecelines.frames import Held, end_held, take_byte
+from piecelines.frames import whole_frames
 from piecelines.rules import read_rules
 from piecelines.senders import answers
 
@@ -22,6 +22,10 @@ class Telling:
         for row in rows:
             self.calls.append(len(row))
             self.calls.extend(row)
+        return self
+
+    def told_behind(self, other):
+        self.calls = list(other.calls)
         return self
 
     def clear(self):
@@ -57,6 +61,39 @@ class Telling:
     def ack(self, sender):
         return self.tell(10, [sender])
 
+    def slot(self, sender, slot, place, size):
+        return self.tell(11, [sender, slot, place, size])
+
+    def readslot(self, sender, text):
+        return self.tell(12, [sender], [row_of(text)])
+
+    def held(self, sender):
+        return self.tell(13, [sender])
+
+    def sums(self, sender):
+        return self.tell(14, [sender])
+
+    def rule(self, sender):
+        return self.tell(15, [sender])
+
+    def try_rules(self, rules):
+        return self.tell(16, [], [row_of(rules)])
+
+    def decode(self, mode, told):
+        return self.tell(17, [mode], [row_of(told)])
+
+    def encode(self, points):
+        return self.tell(18, [], [row_of(points)])
+
+    def frames(self, rules, told):
+        return self.tell(19, [], [row_of(rules), row_of(told)])
+
+    def batch(self, rules, told):
+        return self.tell(20, [], [row_of(rules), row_of(told)])
+
+    def counts(self):
+        return self.tell(21)
+
     def answers(self):
         return parted(answers(self.calls))
 
@@ -72,6 +109,30 @@ def parted(given):
         parts.append(given[at + 1:at + 1 + given[at]])
         at += 1 + given[at]
     return parts
+
+
+def rows_in(answer, at):
+    """The rows of an answer, of which the first one's length stands at the place."""
+    rows = []
+    while at < len(answer):
+        rows.append(answer[at + 1:at + 1 + answer[at]])
+        at += 1 + answer[at]
+    return rows
+
+
+def text_in(answer, at):
+    """The one row of an answer, as a text."""
+    row, = rows_in(answer, at)
+    return bytes(row).decode("ascii")
+
+
+def slot_text(telling, sender, slot):
+    """The whole text of a slot behind the calls told so far, which stay as they are."""
+    size = Telling().told_behind(telling).slot(sender, slot, 0, 0).last()[0]
+    text = ""
+    while len(text) < size:
+        text += text_in(Telling().told_behind(telling).slot(sender, slot, len(text), 500).last(), 1)
+    return text
 
 
 def feed_in_pieces(telling, sender, row, size, place=0):
@@ -92,13 +153,7 @@ def records_of(rules, told, size=500, most=None):
 
 
 def frames_of(rules, told):
-    """(begin, upto, ended, fate, lost, odd, kept) of each frame, with a close behind the last byte."""
+    """(begin, upto, ended, fate, lost, odd, kept) of each frame, with a close behind the last byte; of any length."""
     read = read_rules(row_of(rules))
     assert read.fault == 0, rules
-    held = Held(0)
-    out = []
-    row = row_of(told)
-    for place, byte in enumerate(row):
-        take_byte(read, held, place, byte, out)
-    end_held(read, held, len(row), out)
-    return [(f.begin, f.upto, f.ended, f.fate, f.lost, f.odd, bytes(f.kept)) for f in out]
+    return [(f.begin, f.upto, f.ended, f.fate, f.lost, f.odd, bytes(f.kept)) for f in whole_frames(read, row_of(told))]

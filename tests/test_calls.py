@@ -221,10 +221,89 @@ class SaveCutAckTest(unittest.TestCase):
         self.assertEqual([given[0], given[2], given[5], given[-1]], [[0], [1], [2], [2]])
 
 
+class CountsTest(unittest.TestCase):
+    def test_at_the_beginning(self):
+        self.assertEqual(Telling().counts().answers(), [[0, 0]])
+
+    def test_open_and_closed_senders(self):
+        telling = Telling().open(3, LF).counts().open(15, LF).counts().close(3).counts().close(15).counts()
+        self.assertEqual([answer for answer in telling.answers() if len(answer) == 2 and answer != [0, 1]],
+                         [[1, 1], [2, 2], [1, 2], [0, 2]])
+
+    def test_a_sender_opened_again_counts_once(self):
+        telling = Telling().open(0, LF).close(0).open(0, LF).counts().close(0).open(0, LF).close(0).counts()
+        self.assertEqual([telling.answers()[3], telling.last()], [[1, 1], [0, 1]])
+
+    def test_refused_and_wrong_openings_do_not_count(self):
+        telling = Telling().open(16, LF).open(0, [256]).open(0, "WHAT").counts().open(0, LF).open(0, LF).counts()
+        self.assertEqual([telling.answers()[3], telling.last()], [[0, 0], [1, 1]])
+
+    def test_behind_a_cut(self):
+        telling = Telling().open(0, LF).open(1, LF).open(2, LF).close(0).close(1).save(1).close(2).counts().cut().counts()
+        self.assertEqual(telling.answers()[7:], [[0, 3], [3], [2, 3]])
+        telling = Telling().open(0, LF).save(0).close(0).counts().cut().counts()
+        self.assertEqual(telling.answers()[3:], [[0, 1], [1], [1, 1]])
+
+    def test_behind_clear(self):
+        telling = Telling().open(0, LF).open(1, LF).close(1).clear().counts().open(1, LF).counts()
+        self.assertEqual(telling.answers()[3:], [[0], [0, 0], [0, 1], [1, 1]])
+
+    def test_all_sixteen(self):
+        telling = Telling()
+        for sender in range(16):
+            telling.open(sender, LF)
+        self.assertEqual(telling.counts().last(), [16, 16])
+
+
+# Of each sender, each call that only tells or is refused, whatever was done before.
+def telling_calls(telling, sender):
+    text = "LOG 7 1 0 5 5\nSUMS 0 0 0 0 0 0\nHELD 0 0 0 0 0 0 0 0 0 0\nPEND\nSUM "
+    text += str(sum(ord(sign) * at for at, sign in enumerate(text[:-4], 1)) % 65521)
+    telling.next(sender).ack(sender).slot(sender, 0, 0, 500).slot(sender, 1, 3, 9).readslot(sender, text)
+    telling.readslot(sender, "x").held(sender).sums(sender).rule(sender).try_rules(LF).decode(1, "a").encode([97])
+    telling.frames(LF, "a\n").batch(LF, "a\n").counts().feed(sender, -1, "x").feed(sender, 10 ** 6, "x")
+    telling.feed(sender, 0, [256]).take(sender, -1).cutsave(sender, -1).open(sender, "WHAT").open(sender, [256])
+    telling.open(-1, LF).slot(sender, 2, 0, 0).decode(3, "a").encode([55296]).frames("", "a").batch(LF, [256])
+    telling.rule(16).held(-1).sums(16).readslot(sender, [256]).take(sender, 0)
+    return telling
+
+
+class OnlyTellingTest(unittest.TestCase):
+    def done(self, between):
+        """The answers of save, cut, cutsave, ack and others; between tells whether calls that only tell stand there."""
+        telling = Telling()
+        places = []
+        rules = "FRAME LINES CRLF ESC 92\nLIMIT 3 SPLIT\nJOIN TAIL 43 MOST 3"
+        for name, told in [("open", [0, rules]), ("feed", [0, 0, "ab+\r\ncd\\"]), ("save", [0]), ("feed", [0, 8, "\n\r"]),
+                           ("cutsave", [0, 50]), ("ack", [0]), ("feed", [0, 8, "x\r\ne+\r\n"]), ("save", [0]), ("next", [0]),
+                           ("take", [0, 1]), ("cut", []), ("next", [0]), ("rest", [0]), ("cutsave", [0, 10 ** 6]),
+                           ("sums", [0]), ("close", [0]), ("ack", [0]), ("cut", []), ("held", [0]), ("close", [0]),
+                           ("save", [0]), ("take", [0, 9]), ("open", [0, LF]), ("ack", [0]), ("rule", [0]), ("counts", [])]:
+            getattr(telling, name)(*told)
+            places.append(len(parted(answers(telling.calls))) - 1)
+            if between:
+                telling_calls(telling, 0)
+        given = telling.answers()
+        return [given[place] for place in places]
+
+    def test_they_change_nothing(self):
+        done = self.done(False)
+        self.assertEqual(self.done(True), done)
+        self.assertEqual(len([answer for answer in done if answer[0] < 0]), 0)
+
+    def test_told_twice_they_answer_alike(self):
+        for telling in (Telling(), Telling().open(0, LF), Telling().open(0, LF).feed(0, 0, "a\nb").save(0),
+                        Telling().open(0, LF).feed(0, 0, "a\nb").close(0).cutsave(0, 9)):
+            size = len(telling.answers()) if telling.calls else 0
+            given = telling_calls(telling_calls(telling, 0), 0).answers()[size:]
+            self.assertEqual(given[:len(given) // 2], given[len(given) // 2:])
+
+
 class AnswersTest(unittest.TestCase):
     def test_the_list_handed_in_is_not_changed(self):
         telling = Telling().open(0, LF + "\nDECODE BYTES\nJOIN BLANK").feed(0, 0, "a\n b\nc").save(0).rest(0).next(0)
-        telling.take(0, 1).cutsave(0, 10).feed(0, 0, [300]).ack(0).close(0).cut().clear()
+        telling.take(0, 1).cutsave(0, 10).feed(0, 0, [300]).ack(0).close(0).cut()
+        telling_calls(telling, 0).clear().decode(2, [200]).frames(LF + "\nDECODE BYTES", "a\nb").batch(LF, "a\nb")
         before = list(telling.calls)
         answers(telling.calls)
         self.assertEqual(telling.calls, before)
@@ -237,7 +316,14 @@ class AnswersTest(unittest.TestCase):
     def test_nothing_is_kept_from_one_time_to_the_next(self):
         calls = Telling().open(0, LF).feed(0, 0, "a\n").save(0).next(0).calls
         first = answers(calls)
-        self.assertEqual(answers(Telling().next(0).ack(0).cut().calls), [1, -4, 1, -4, 1, 0])
+        telling = Telling().next(0).ack(0).cut().slot(0, 0, 0, 0).held(0).sums(0).rule(0).counts()
+        self.assertEqual(telling.answers(), [[-4], [-4], [0], [-4], [-4], [-4], [-4], [0, 0]])
+        self.assertEqual(answers(calls), first)
+
+    def test_each_call_is_told_twice_with_the_same_answer(self):
+        calls = telling_calls(Telling().open(0, LF).feed(0, 0, "a\nb").save(0), 0).calls
+        first = answers(calls)
+        answers(Telling().open(0, "FRAME LINES CRLF").feed(0, 0, "c\r\n").save(0).cut().calls)
         self.assertEqual(answers(calls), first)
 
     def test_the_form_of_an_answer(self):
@@ -247,6 +333,7 @@ class AnswersTest(unittest.TestCase):
 
     def test_all_is_whole_numbers(self):
         telling = Telling().open(0, LF + "\nLIMIT 1 CUT").feed(0, 0, "ab\n").next(0).save(0).cut().next(0).ack(0)
+        telling_calls(telling, 0)
         self.assertEqual({type(number) for number in answers(telling.calls)}, {int})
 
     def test_a_long_line_of_calls(self):

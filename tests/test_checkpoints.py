@@ -1,39 +1,14 @@
 import unittest
 
-from piecelines.calls import Desk, answer_call
+from piecelines.calls import answer_call
 from piecelines.checkpoints import check_of, checkpoint_text, read_checkpoint
+from piecelines.desk import Desk
 from telling import Telling, records_of, row_of
-
-LF = "FRAME LINES LF"
-JOINED = "FRAME LINES LF ESC 92\nJOIN BLANK"
-SLIP = "FRAME SLIP END 192 ESC 219 AS 220 221"
-
-
-def signed(lines):
-    """The lines with their check behind them."""
-    ahead = "".join(line + "\n" for line in lines)
-    return ahead + "SUM " + str(sum(ord(sign) * (at + 1) for at, sign in enumerate(ahead)) % 65521)
-
-
-def state_behind(rules, told, closed=False):
-    desk = Desk()
-    answer_call(desk, 1, [0], [row_of(rules)])
-    answer_call(desk, 2, [0, 0], [row_of(told)])
-    if closed:
-        answer_call(desk, 3, [0], [])
-    return desk.senders[0].state
-
-
-def text_behind(rules, told, closed=False):
-    return checkpoint_text(1, state_behind(rules, told, closed))
+from texts import GOOD, HOLDING, JOINED, LF, SLIP, signed, text_behind
 
 
 def held_behind(rules, told, closed=False):
     return text_behind(rules, told, closed).split("\n")[2]
-
-
-GOOD = ["LOG 1 1 1 9 1", "SUMS 3 0 0 0 0 0", "HELD 1 7 1 0 0 0 0 0 0 0 100", "PEND 1 5 7 0 0 0 99",
-        "REC 0 2 0 5 0 0 0 97 10 32 98"]
 
 
 class TextTest(unittest.TestCase):
@@ -92,20 +67,6 @@ class TextTest(unittest.TestCase):
         self.assertEqual(held_behind("FRAME LENGTH 2 BIG", [255, 255, 97], True), "HELD 0 3 0 0 0 0 0 0 0 0")
 
 
-# Together they hold all that can be held.
-HOLDING = [
-    (JOINED, row_of("a\n b\nc\nd\\x\\")),
-    (LF + "\nLIMIT 2 CUT\nDECODE BYTES\nJOIN TAIL 43", row_of("abcd+\na+\n") + [200, 10, 97]),
-    ("FRAME LINES CRLF\nLIMIT 2 SPLIT", row_of("abc\rd\r\r\n\r")),
-    ("FRAME LINES ANY ESC 92\nEMPTY SKIP", row_of("a\r\nb\r\\\nc\r\r\n\n")),
-    (SLIP + "\nDECODE STRICT", [1, 219, 220, 219, 5, 192, 192, 255, 192, 7, 219]),
-    ("FRAME COUNT BASE 10 SEP 32\nLIMIT 2 SPLIT", row_of("012 abcdefghijklx0 y\n3 ab")),
-    ("FRAME COUNT BASE 10 SEP 32\nLIMIT 2 DROP", row_of("3 abc2 de1")),
-    ("FRAME LENGTH 3 BIG\nLIMIT 1 CUT", [0, 0, 2, 97, 98, 0, 0, 0, 1, 2, 3, 4]),
-    ("FRAME LENGTH 2 LITTLE PLUS 1", [0, 0, 97, 2, 0, 97, 98, 99, 255, 255, 97]),
-]
-
-
 class EveryPlaceTest(unittest.TestCase):
     def test_power_lost_behind_every_byte(self):
         for rules, row in HOLDING:
@@ -121,73 +82,23 @@ class EveryPlaceTest(unittest.TestCase):
                     self.assertEqual(given[-1], [-7])
 
 
+def state_behind(rules, told, closed):
+    desk = Desk()
+    answer_call(1, desk, [0], [row_of(rules)])
+    answer_call(2, desk, [0, 0], [row_of(told)])
+    if closed:
+        answer_call(3, desk, [0], [])
+    return desk.senders[0].state
+
+
 class ReadTest(unittest.TestCase):
-    def test_what_is_written_is_read(self):
+    def test_all_that_is_written_is_read(self):
         for rules, told in [(rules, row[:place]) for rules, row in HOLDING for place in range(len(row) + 1)]:
             for closed in (False, True):
                 state = state_behind(rules, told, closed)
                 found = read_checkpoint(checkpoint_text(7, state))
                 self.assertEqual(found.generation, 7)
                 self.assertEqual(checkpoint_text(9, found.state), checkpoint_text(9, state))
-
-    def test_half_a_text_is_not_read(self):
-        text = signed(GOOD)
-        self.assertIsNotNone(read_checkpoint(text))
-        for size in range(len(text)):
-            self.assertIsNone(read_checkpoint(text[:size]))
-
-    def test_a_changed_sign_is_not_read(self):
-        text = signed(GOOD)
-        for at in range(len(text)):
-            self.assertIsNone(read_checkpoint(text[:at] + ("7" if text[at] != "7" else "8") + text[at + 1:]))
-        for more in ("\n", " ", "0", "\n\n"):
-            self.assertIsNone(read_checkpoint(text + more))
-
-    def check_lines(self, at, right, wrong):
-        for line in right:
-            with self.subTest(line=line):
-                self.assertIsNotNone(read_checkpoint(signed(GOOD[:at] + [line] + GOOD[at + 1:])))
-        for line in wrong:
-            with self.subTest(line=line):
-                self.assertIsNone(read_checkpoint(signed(GOOD[:at] + [line] + GOOD[at + 1:])))
-
-    def test_log(self):
-        self.check_lines(0, ["LOG 0 0 0 0 0", "LOG 9 99999 1 123456789 5"], [
-            "LOG", "LOG 1 1 1 9", "LOG 1 1 1 9 1 1", "LOG 1 1 2 9 1", "LOG 01 1 1 9 1", "LOG 1 1 1 9 ", "LOG 1  1 1 9 1",
-            " LOG 1 1 1 9 1", "log 1 1 1 9 1", "LOG -1 1 1 9 1", "LOG +1 1 1 9 1", "LOG 1 1 1 x 1", "LOG 1 1 1 9 00", ""])
-
-    def test_sums(self):
-        self.check_lines(1, ["SUMS 9 8 7 6 5 4"], ["SUMS 0 0 0 0 0", "SUMS 0 0 0 0 0 0 0", "SUM 0 0 0 0 0 0", "SUMS"])
-
-    def test_held(self):
-        self.check_lines(2, ["HELD 5 5 0 1 5 5 5 0 1 5", "HELD 0 0 1 1 0 0 0 1 1 0 999 0"], [
-            "HELD 0 0 0 0 0 0 0 0 0", "HELD 0 0 2 0 0 0 0 0 0 0", "HELD 0 0 0 2 0 0 0 0 0 0", "HELD 0 0 0 0 0 0 0 2 0 0",
-            "HELD 0 0 0 0 0 0 0 0 2 0", "HELD 0 0 0 0 0 0 0 0 0 0 09", "HELD"])
-
-    def test_pend(self):
-        self.check_lines(3, ["PEND", "PEND 1 2 3 4 5 0", "PEND 1 2 3 4 5 1 9999999"], [
-            "PEND ", "PEND 1 2 3 4 5", "PEND 1 2 3 4 5 2", "PEND 1 2 3 4 5 0 x", "REC 0 1 2 3 4 5 0"])
-
-    def test_records(self):
-        self.check_lines(4, ["REC 5 1 2 3 4 5 0", "REC 0 1 2 3 4 5 1 7\nREC 9 1 2 3 4 5 1"], [
-            "REC", "REC 0 1 2 3 4 5", "REC 0 1 2 3 4 5 2", "PEND", "", "REC 0 1 2 3 4 5 1 7\n"])
-        self.assertIsNotNone(read_checkpoint(signed(GOOD[:4])))
-        self.assertIsNone(read_checkpoint(signed(GOOD[:3])))
-
-    def test_the_check_has_no_zeros_before(self):
-        text = signed(GOOD)
-        self.assertIsNone(read_checkpoint(text.replace("SUM ", "SUM 0")))
-        self.assertIsNone(read_checkpoint(text.replace("SUM ", "SUM  ")))
-
-    def test_long_numbers(self):
-        found = read_checkpoint(signed(["LOG " + "9" * 4500 + " 1 1 0 0"] + GOOD[1:]))
-        self.assertEqual(found.generation, 10 ** 4500 - 1)
-        found = read_checkpoint(signed(["LOG 123456789012345678901234567890123456 1 1 0 0"] + GOOD[1:]))
-        self.assertEqual(found.generation, 123456789012345678901234567890123456)
-
-    def test_nothing_is_no_checkpoint(self):
-        self.assertIsNone(read_checkpoint(""))
-        self.assertIsNone(read_checkpoint("\n\n\n\n"))
 
 
 class PowerTest(unittest.TestCase):

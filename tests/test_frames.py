@@ -1,6 +1,6 @@
 import unittest
 
-from telling import frames_of, records_of
+from telling import Telling, frames_of, records_of, rows_in
 
 CLOSED, TEN, THIRTEEN, BOTH, NUMBER, END, LIMIT = range(7)
 WHOLE, CUT, DROPPED, SPLIT_OFF, WRONG = range(5)
@@ -18,7 +18,10 @@ def wrong(begin, upto, ended):
 
 class Checked(unittest.TestCase):
     def check(self, rules, told, frames):
-        self.assertEqual(frames_of(rules, told), frames)
+        rows = [list(frame[:6]) + list(frame[6]) for frame in frames]
+        answer = Telling().frames(rules, told).last()
+        self.assertEqual(answer[:2], [0, len(frames)])
+        self.assertEqual(rows_in(answer, 2), rows)
         self.check_records(rules, told, frames)
 
     def check_records(self, rules, told, frames):

@@ -1,198 +1,68 @@
-"""Random bytes against a model that sees them whole, and with power lost at random."""
+"""Random calls against a model that makes every answer anew from all bytes, and with power lost at random."""
 
 import random
 import unittest
 
-from piecelines.senders import answers
-from telling import Telling, feed_in_pieces, frames_of, parted, records_of
+from model import Model, cut_up, read
+from telling import Telling, feed_in_pieces, frames_of, records_of, row_of
 
-CLOSED, TEN, THIRTEEN, BOTH, NUMBER, END, LIMIT = range(7)
-
-
-def line_tokens(ending, escape, row):
-    """("put", place, byte, odd), ("end", behind, ended) and ("skip", behind), in order."""
-    tokens = []
-    at = 0
-    while at < len(row):
-        if row[at] == escape and at + 1 == len(row):
-            tokens.append(("put", at, escape, 1))
-        elif row[at] == escape:
-            odd = 0 if row[at + 1] in (110, 114, 116, escape) else 1
-            tokens.append(("put", at, {110: 10, 114: 13, 116: 9}.get(row[at + 1], row[at + 1]), odd))
-            at += 1
-        elif ending == "CRLF" and row[at:at + 2] == [13, 10]:
-            at += 1
-            tokens.append(("end", at + 1, BOTH))
-        elif ending == "ANY" and row[at] == 13:
-            tokens.append(("end", at + 1, THIRTEEN))
-            if row[at + 1:at + 2] == [10]:
-                at += 1
-                tokens.append(("skip", at + 1))
-        elif ending != "CRLF" and row[at] == 10:
-            tokens.append(("end", at + 1, TEN))
-        else:
-            tokens.append(("put", at, row[at], 0))
-        at += 1
-    return tokens
+JOINS = ["NONE", "BLANK", "HEAD 97 MOST 3", "TAIL 92 WITH SPACE", "HEAD LETTER WITH NOTHING", "TAIL 5 MOST 2",
+         "HEAD DIGIT MOST 4", "BLANK MOST 2 WITH SPACE", "TAIL 48"]
 
 
-def slip_tokens(end, escape, for_end, for_escape, row):
-    tokens = []
-    at = 0
-    while at < len(row):
-        if row[at] == end:
-            tokens.append(("end", at + 1, END))
-        elif row[at] == escape and at + 1 == len(row):
-            tokens.append(("put", at, escape, 1))
-        elif row[at] == escape:
-            odd = 0 if row[at + 1] in (for_end, for_escape) else 1
-            tokens.append(("put", at, {for_end: end, for_escape: escape}.get(row[at + 1], row[at + 1]), odd))
-            at += 1
-        else:
-            tokens.append(("put", at, row[at], 0))
-        at += 1
-    return tokens
-
-
-def packed(content, begin, upto, ended, limit, beyond):
-    """The frames of one stretch of content, (place, byte, odd) each."""
-    if beyond == "SPLIT":
-        parts = [content[at:at + limit] for at in range(0, len(content), limit)] or [[]]
-        frames = []
-        for at, part in enumerate(parts):
-            last = at + 1 == len(parts)
-            behind = upto if last else parts[at + 1][0][0]
-            frames.append((begin, behind, ended if last else LIMIT, 0 if last else 3, 0,
-                           sum(odd for place, byte, odd in part), bytes(byte for place, byte, odd in part)))
-            begin = behind
-        return frames
-    odd = sum(odd for place, byte, odd in content)
-    kept = bytes(byte for place, byte, odd in content)
-    if len(kept) <= limit:
-        return [(begin, upto, ended, 0, 0, odd, kept)]
-    if beyond == "CUT":
-        return [(begin, upto, ended, 1, len(kept) - limit, odd, kept[:limit])]
-    return [(begin, upto, ended, 2, len(kept), odd, b"")]
-
-
-def frames_by_tokens(tokens, size, limit, beyond):
-    frames = []
-    content = []
-    begin = 0
-    for token in tokens:
-        if token[0] == "put":
-            content.append(token[1:])
-        elif token[0] == "skip":
-            begin = token[1]
-        else:
-            frames.extend(packed(content, begin, token[1], token[2], limit, beyond))
-            content = []
-            begin = token[1]
-    if content:
-        frames.extend(packed(content, begin, size, CLOSED, limit, beyond))
-    return frames
-
-
-def wrong(begin, upto, ended):
-    return (begin, upto, ended, 4, upto - begin, 0, b"")
-
-
-def counted(row, begin, header, number, limit, beyond):
-    """The frames of a number's content; the last one is wrong if the row ends within it."""
-    there = [(at, row[at], 0) for at in range(header, min(header + number, len(row)))]
-    frames = packed(there, begin, header + len(there), NUMBER, limit, beyond)
-    if len(there) < number:
-        frames[-1] = wrong(frames[-1][0], len(row), CLOSED)
-    return frames
-
-
-def value_of(digits, base):
-    try:
-        return int(bytes(digits).decode("ascii"), base)
-    except (ValueError, UnicodeDecodeError):
-        return -1
-
-
-def count_frames(base, sep, row, limit, beyond):
-    frames = []
-    begin = 0
-    while begin < len(row):
-        at = begin
-        while at < len(row) and row[at] != sep and at - begin <= 12 and chr(row[at]).isalnum() and row[at] < 128:
-            at += 1
-        digits = row[begin:at]
-        number = value_of(digits, base) if 1 <= len(digits) <= 12 else -1
-        if at < len(row) and row[at] == sep and 0 <= number <= 4000:
-            frames.extend(counted(row, begin, at + 1, number, limit, beyond))
-        elif 10 in row[begin:]:
-            frames.append(wrong(begin, row.index(10, begin) + 1, TEN))
-        else:
-            frames.append(wrong(begin, len(row), CLOSED))
-        begin = frames[-1][1]
-    return frames
-
-
-def length_frames(width, order, shift, row, limit, beyond):
-    frames = []
-    begin = 0
-    while begin < len(row):
-        number = int.from_bytes(bytes(row[begin:begin + width]), order.lower()) + shift
-        if len(row) - begin < width or not 0 <= number <= 4000:
-            frames.append(wrong(begin, len(row), CLOSED))
-        else:
-            frames.extend(counted(row, begin, begin + width, number, limit, beyond))
-        begin = frames[-1][1]
-    return frames
-
-
-def random_case(source):
-    """The words behind FRAME, a model of them, and the bytes that matter to them."""
+def random_frame(source):
+    """The words behind FRAME, and the bytes that matter to them."""
     way = source.randrange(4)
     if way == 0:
-        ending = source.choice(["LF", "CRLF", "ANY"])
-        escape = source.choice([-1, 92, 110])
-        told = "LINES " + ending + ("" if escape < 0 else " ESC " + str(escape))
-        return (told, lambda row, limit, beyond: frames_by_tokens(
-            line_tokens(ending, escape, row), len(row), limit, beyond), [10, 13, 92, 110, 114, 97, 200])
+        escape = source.choice(["", " ESC 92", " ESC 110", " ESC 0"])
+        return "LINES " + source.choice(["LF", "CRLF", "ANY"]) + escape, [10, 13, 92, 110, 114, 97, 200]
     if way == 1:
-        return ("SLIP END 1 ESC 2 AS 3 4", lambda row, limit, beyond: frames_by_tokens(
-            slip_tokens(1, 2, 3, 4, row), len(row), limit, beyond), [1, 2, 3, 4, 5, 5])
+        return "SLIP END 1 ESC 2 AS 3 4", [1, 2, 3, 4, 5, 5]
     if way == 2:
-        base = source.choice([2, 3, 10, 16, 36])
         sep = source.choice([32, 10, 49])
-        return ("COUNT BASE " + str(base) + " SEP " + str(sep), lambda row, limit, beyond: count_frames(
-            base, sep, row, limit, beyond), [sep, sep, 48, 48, 49, 50, 51, 97, 10])
+        told = "COUNT BASE " + str(source.choice([2, 3, 10, 16, 36])) + " SEP " + str(sep)
+        return told, [sep, sep, 48, 48, 49, 50, 51, 97, 10]
     width = source.randrange(1, 5)
-    order = source.choice(["BIG", "LITTLE"])
-    shift = source.choice([-2, 0, 0, 3])
-    told = "LENGTH " + str(width) + " " + order + (" PLUS 3" if shift > 0 else " MINUS 2" if shift < 0 else "")
-    return (told, lambda row, limit, beyond: length_frames(width, order, shift, row, limit, beyond),
-            [0] * 12 * (width - 1) + [2, 3, 4, 5])
+    told = "LENGTH " + str(width) + " " + source.choice(["BIG", "LITTLE"])
+    return told + source.choice(["", "", " PLUS 3", " MINUS 2", " MINUS 0"]), [0] * 12 * (width - 1) + [2, 3, 4, 5]
 
 
-JOINS = ["NONE", "BLANK", "HEAD 97 MOST 3", "TAIL 92 WITH SPACE", "HEAD LETTER WITH NOTHING", "TAIL 5 MOST 2"]
+def random_rules(source, told):
+    lines = ["FRAME " + told]
+    if source.randrange(4):
+        lines.append("LIMIT " + str(source.choice([1, 2, 3, 5, 1000])) + " " + source.choice(["CUT", "DROP", "SPLIT"]))
+    if source.randrange(4):
+        lines.append("JOIN " + source.choice(JOINS))
+    if source.randrange(4):
+        lines.append("DECODE " + source.choice(["MARK", "STRICT", "BYTES"]))
+    if source.randrange(4):
+        lines.append("EMPTY " + source.choice(["KEEP", "SKIP"]))
+    source.shuffle(lines)
+    return "\n".join(lines)
 
 
-class ModelTest(unittest.TestCase):
+def random_row(source, signs, most):
+    return [source.choice(signs + [32, 195, 169]) for at in range(source.randrange(most))]
+
+
+class FramesTest(unittest.TestCase):
     def test_frames(self):
         source = random.Random(1)
         for turn in range(3000):
-            told, model, signs = random_case(source)
-            limit = source.choice([1, 2, 3, 5, 1000])
-            beyond = source.choice(["CUT", "DROP", "SPLIT"])
+            told, signs = random_frame(source)
+            rules = random_rules(source, told)
             row = [source.choice(signs) for at in range(source.randrange(30))]
-            rules = "FRAME " + told + "\nLIMIT " + str(limit) + " " + beyond
             with self.subTest(rules=rules, row=row):
-                self.assertEqual(frames_of(rules, row), model(row, limit, beyond))
+                self.assertEqual(frames_of(rules, row), cut_up(read(row_of(rules)), row, True)[0])
 
+
+class PowerTest(unittest.TestCase):
     def test_pieces_and_power(self):
         source = random.Random(2)
         for turn in range(300):
-            told, model, signs = random_case(source)
-            rules = "FRAME {}\nLIMIT {} {}\nJOIN {}\nDECODE {}\nEMPTY {}".format(
-                told, source.choice([2, 3, 1000]), source.choice(["CUT", "DROP", "SPLIT"]), source.choice(JOINS),
-                source.choice(["MARK", "STRICT", "BYTES"]), source.choice(["KEEP", "SKIP"]))
-            row = [source.choice(signs + [32, 195, 169]) for at in range(source.randrange(60))]
+            told, signs = random_frame(source)
+            rules = random_rules(source, told)
+            row = random_row(source, signs, 60)
             with self.subTest(rules=rules, row=row):
                 due = records_of(rules, row)
                 self.assertEqual(records_of(rules, row, source.randrange(1, 8)), due)
@@ -233,12 +103,96 @@ class ModelTest(unittest.TestCase):
         else:
             telling.cutsave(0, source.choice([0, 10, 60, 100, 1000000]))
 
-    def test_two_lists_of_calls_do_not_touch_each_other(self):
-        first = Telling().open(0, "FRAME LINES LF").feed(0, 0, "a\nb").save(0).next(0).calls
-        second = Telling().open(0, "FRAME LINES CRLF").feed(0, 0, "c\r\n").next(0).calls
-        due = (answers(first), answers(second))
-        self.assertEqual((answers(first), answers(second)), due)
-        self.assertEqual(parted(due[1]), [[0, 1], [3, 1], [0, 1, 0, 3, 0, 0, 0, 1, 99]])
+
+class Caller:
+    """Random calls, told to the program's list and to the model alike."""
+
+    def __init__(self, seed):
+        self.source = random.Random(seed)
+        self.telling = Telling()
+        self.model = Model()
+        self.due = []
+        self.rules = "FRAME LINES LF"
+        self.signs = [97]
+        self.signs_of = {}
+
+    def do(self, name, *told):
+        getattr(self.telling, name)(*told)
+        self.due.append(self.model.do(name, *[row_of(part) if isinstance(part, str) else part for part in told]))
+        return self.due[-1]
+
+    def place(self, sender):
+        there = self.model.senders.get(sender)
+        place = len(there.log.row) if there else 0
+        return self.source.choice([place] * 16 + [0, max(0, place - 3), place + 1, -1])
+
+    def new_rules(self):
+        told, self.signs = random_frame(self.source)
+        self.rules = random_rules(self.source, told)
+        return self.rules
+
+    def text_shown(self, sender):
+        """A slot's text by the model, perhaps with a sign changed."""
+        there = self.model.senders.get(sender)
+        row = row_of(there.slots[self.source.randrange(2)] if there else "LOG")
+        for turn in range(self.source.choice([0, 0, 1]) if row else 0):
+            row[self.source.randrange(len(row))] = self.source.choice([10, 32, 48, 49, 65, 256])
+        return row
+
+    def told(self, name, sender):
+        """What is told behind the name of a call."""
+        source = self.source
+        signs = self.signs_of.get(sender, self.signs) if name == "feed" else self.signs
+        row = random_row(source, signs, 25) + source.choice([[]] * 60 + [[256], [-1], [10 ** 18]])
+        if name in ("clear", "cut", "counts"):
+            return []
+        if name == "open":
+            return [sender, self.new_rules()]
+        if name == "feed":
+            return [sender, self.place(sender), row]
+        if name == "take":
+            return [sender, source.choice([0, 1, 2, 3, 5, 10, 1000000, 1000001, -1])]
+        if name == "cutsave":
+            return [sender, source.choice([0, 10, 60, 100, 1000000, 1000001, -1])]
+        if name == "slot":
+            return [sender, source.choice([0, 1] * 6 + [2, -1]), source.choice([0] * 8 + [50, 120, 1000000, 1000001, -1]),
+                    source.choice([500] * 8 + [0, 70, 501, -1])]
+        if name == "readslot":
+            return [sender, self.text_shown(sender)]
+        if name == "try_rules":
+            return [source.choice([self.new_rules(), self.rules + "\nEMPTY SKIP", "LIMIT 0 CUT"])]
+        if name == "decode":
+            return [source.choice([0, 1, 2, 3]), row]
+        if name == "encode":
+            return [[source.choice([0, 127, 128, 2047, 2048, 55295, 57344, 65535, 65536, 1114111]) for byte in row]]
+        if name in ("frames", "batch"):
+            return [self.rules, row]
+        return [sender]
+
+    def do_one(self):
+        name = self.source.choice(ROUND)
+        sender = self.source.choice(SENDERS)
+        # A sender that was never opened is tried now and then, not all the time.
+        if sender in (0, 1, 2) and sender not in self.model.senders and self.source.randrange(4):
+            name = "open"
+        answer = self.do(name, *self.told(name, sender))
+        if name == "open" and answer[0] == 0:
+            self.signs_of[sender] = self.signs
+
+
+ROUND = ("feed " * 16 + "held held held sums sums next next next take save save cut cutsave ack rest close open open "
+         "slot slot readslot readslot rule try_rules decode encode frames batch counts").split()
+SENDERS = [0] * 14 + [1] * 4 + [2] * 2 + [15, 16, -1]
+
+
+class CallsTest(unittest.TestCase):
+    def test_random_calls(self):
+        for seed in range(300):
+            caller = Caller(seed)
+            for turn in range(120):
+                caller.do_one()
+            with self.subTest(seed=seed):
+                self.assertEqual(caller.telling.answers(), caller.due)
 
 
 if __name__ == "__main__":

@@ -1,0 +1,17 @@
+"""The numbers of refusals, and the bounds beyond which a call is refused."""
+
+OUT_OF_RANGE = -1
+NOT_BYTES = -2
+IS_OPEN = -3
+NOT_OPENED = -4
+BEYOND_PLACE = -5
+RECORDS_WAIT = -6
+NONE_WAITS = -7
+QUEUE_FULL = -8
+
+MOST_SENDER = 15
+MOST_ROW = 500
+MOST_RULES = 300
+MOST_CHECKPOINT = 20000
+MOST_WAITING = 200
+MOST_NUMBER = 1000000
